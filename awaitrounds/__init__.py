@@ -1,0 +1,1 @@
+"""Awaitrounds: what programs with awaits do in one callback queue."""

@@ -1,0 +1,135 @@
+"""A small queue that runs programs callback by callback, as the definitions say, for the tests alone.
+
+It knows nothing of the rules for rounds: a part of a program is a call with what follows it.
+"""
+
+from collections import deque
+
+GAP = None
+
+
+class SmallQueue:
+    """One queue, first in, first out; it notes what is logged in which round."""
+
+    def __init__(self):
+        self.waiting = deque()
+        self.at = 0
+        self.rows = {}
+
+    def put(self, callback):
+        self.waiting.append((self.at + 1, callback))
+
+    def log(self, item):
+        self.rows.setdefault(self.at, []).append(item)
+
+    def run_all(self, first, most=100000):
+        """Runs a first callback in round 0 and then all others; the rows of the log."""
+        first()
+        for _ in range(most):
+            if not self.waiting:
+                return self.rows
+            self.at, callback = self.waiting.popleft()
+            callback()
+        raise AssertionError("the run is too long")
+
+
+def nothing():
+    """What follows a detached program."""
+
+
+def start(queue, program, follow):
+    """Runs a program within the callback that runs now; follow is called when it finishes."""
+    kind = program[0]
+    if kind == "log":
+        queue.log(program[1])
+        follow()
+    elif kind == "await":
+        start_await(queue, program[1], follow)
+    elif kind == "seq":
+        start_seq(queue, program[1], 0, follow)
+    elif kind == "fork":
+        start(queue, program[1], nothing)
+        follow()
+    elif kind == "join":
+        start_join(queue, program[1], follow)
+    elif kind == "race":
+        start_race(queue, program[1], follow)
+    elif kind == "loop":
+        start_seq(queue, (program[2],) * program[1], 0, follow)
+    else:
+        raise AssertionError(program)
+
+
+def start_await(queue, count, follow):
+    if count == 0:
+        follow()
+    else:
+        queue.put(lambda: start_await(queue, count - 1, follow))
+
+
+def start_seq(queue, parts, index, follow):
+    if index == len(parts):
+        follow()
+    else:
+        start(queue, parts[index], lambda: start_seq(queue, parts, index + 1, follow))
+
+
+def start_join(queue, parts, follow):
+    left = [len(parts)]
+
+    def one_finished():
+        left[0] -= 1
+        if left[0] == 0:
+            follow()
+
+    for part in parts:
+        start(queue, part, one_finished)
+
+
+def start_race(queue, parts, follow):
+    finished = []
+
+    def one_finished():
+        finished.append(True)
+        if len(finished) == 1:
+            follow()
+
+    for part in parts:
+        start(queue, part, one_finished)
+
+
+def follower(queue, horizon, note=GAP):
+    """What logs a note in each round from the finish up to the horizon, and then ends."""
+    def each_round():
+        queue.log(note)
+        if queue.at < horizon:
+            queue.put(each_round)
+    return each_round
+
+
+def run_rows(program):
+    """The finish of a program, and the words of its rounds, without anything that follows it."""
+    queue = SmallQueue()
+    finishes = []
+    rows = queue.run_all(lambda: start(queue, program, lambda: finishes.append(queue.at)))
+    assert len(finishes) == 1
+    return finishes[0], rows
+
+
+def marked_rows(program, horizon):
+    """The marked words of the rounds from 0 up to the horizon, found by a follower."""
+    queue = SmallQueue()
+    rows = queue.run_all(lambda: start(queue, program, follower(queue, horizon)))
+    return [tuple(rows.get(at, ())) for at in range(horizon + 1)]
+
+
+def company_rows(programs, horizon):
+    """The log of the rounds of several programs, each with a follower that logs its index."""
+    queue = SmallQueue()
+
+    def first():
+        for index, program in enumerate(programs):
+            start(queue, program, follower(queue, horizon, index))
+
+    rows = queue.run_all(first)
+    return [tuple(rows.get(at, ())) for at in range(horizon + 1)]
