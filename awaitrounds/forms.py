@@ -1,6 +1,8 @@
 """Forms: the finish and the marked words of programs in a few rounds."""
 
-from awaitrounds.courses import Detached, Given, InTurn, Repeated, course_of, joined_course, raced_course
+from awaitrounds.courses import (
+    course_of, detached_course, joined_course, raced_course, repeated_course, shown_course, turned_course,
+)
 from awaitrounds.errors import TooLong, TooMany
 from awaitrounds.programs import MOST_PARTS
 from awaitrounds.values import is_integer, is_word
@@ -20,10 +22,10 @@ def is_form(value):
         return False
     if not all([is_row(row, at >= finish) for at, row in enumerate(rows)]):
         return False
-    course = Given(value)
-    if course.many > MOST_WORDS:
+    course = shown_course(value)
+    if course.total() > MOST_WORDS:
         return False
-    return len(rows) == finish + 1 or course.last == len(rows) - 1
+    return len(rows) == finish + 1 or course.last_round() == len(rows) - 1
 
 
 def is_row(value, has_gap):
@@ -36,21 +38,19 @@ def is_row(value, has_gap):
     return all([is_word(word) for word in words])
 
 
-def shown(course):
+def form_that_shows(course):
     """The form that shows a course."""
-    last = course.finish
-    if course.last is not None:
-        last = max(last, course.last)
+    last = max(course.finish, course.last_round() or 0)
     if last >= MOST_ROWS:
         raise TooLong(MOST_ROWS)
-    if course.many > MOST_WORDS:
+    if course.total() > MOST_WORDS:
         raise TooMany(MOST_WORDS)
     return (course.finish, tuple([course.marked(at) for at in range(last + 1)]))
 
 
 def form_of(program):
     """The form of a program."""
-    return shown(course_of(program))
+    return form_that_shows(course_of(program))
 
 
 def program_of(form):
@@ -60,26 +60,25 @@ def program_of(form):
     adds a second chain behind it for the words behind the gap. That chain never finishes ahead of
     the await, and the race gives the gap to the first one of its parts.
     """
-    course = Given(form)
-    sides = [course.sides(at) for at in range(len(course.rows))]
-    steps = [("fork", log_rows([ahead for ahead, behind in sides]))]
+    course = shown_course(form)
+    steps = [("fork", one_chain(course.ahead))]
     if course.finish > 0:
         steps.append(("await", course.finish))
     main = ("seq", tuple(steps))
-    if not any([behind for ahead, behind in sides]):
+    if not course.behind:
         return main
-    return ("race", (main, log_rows([behind for ahead, behind in sides])))
+    return ("race", (main, one_chain(course.behind)))
 
 
-def log_rows(rows):
-    """A program that logs the words of each row in the round of its number."""
+def one_chain(strands):
+    """A program that logs strands with one entry each, which come in ascending rounds."""
     steps = []
     reached = 0
-    for at, words in enumerate(rows):
-        if words and at > reached:
-            steps.append(("await", at - reached))
-            reached = at
-        steps.extend([("log", word) for word in words])
+    for strand in strands:
+        if strand.first > reached:
+            steps.append(("await", strand.first - reached))
+            reached = strand.first
+        steps.append(("log", strand.word))
     return one_seq(steps)
 
 
@@ -92,24 +91,24 @@ def one_seq(steps):
 
 def then(one, other):
     """The form of the seq of two programs with these forms."""
-    return shown(InTurn([Given(one), Given(other)]))
+    return form_that_shows(turned_course([shown_course(one), shown_course(other)]))
 
 
 def forked(form):
     """The form of the fork of a program with this form."""
-    return shown(Detached(Given(form)))
+    return form_that_shows(detached_course(shown_course(form)))
 
 
 def joined(forms):
     """The form of the join of programs with these forms."""
-    return shown(joined_course([Given(form) for form in forms]))
+    return form_that_shows(joined_course([shown_course(form) for form in forms]))
 
 
 def raced(forms):
     """The form of the race of programs with these forms."""
-    return shown(raced_course([Given(form) for form in forms]))
+    return form_that_shows(raced_course([shown_course(form) for form in forms]))
 
 
 def repeated(form, count):
     """The form of a seq of count programs with this form."""
-    return shown(Repeated(Given(form), count))
+    return form_that_shows(repeated_course(shown_course(form), count))

@@ -68,9 +68,9 @@ def are_parts(value, least, most):
 def is_body(program):
     """Whether a program without loops may be the body of a loop."""
     course = course_of(program)
-    if not 1 <= course.finish <= MOST_BODY_FINISH or course.many > MOST_BODY_WORDS:
+    if not 1 <= course.finish <= MOST_BODY_FINISH or course.total() > MOST_BODY_WORDS:
         return False
-    return course.last is None or course.last <= MOST_BODY_ROUND
+    return course.total() == 0 or course.last_round() <= MOST_BODY_ROUND
 
 
 def children(program):

@@ -10,7 +10,7 @@ def finish(program):
 
 def last_round(program):
     """The last round in which a program logs a word, None if it logs none."""
-    return course_of(program).last
+    return course_of(program).last_round()
 
 
 def marked(program, at):

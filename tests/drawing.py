@@ -2,6 +2,8 @@
 
 import random
 
+from awaitrounds.errors import BadProgram
+from awaitrounds.programs import part_at, places, replaced
 from tests.small_queue import run_rows
 
 WORDS = ("a", "b", "c", "d", "ab", "xyz", "abcdefgh")
@@ -77,3 +79,98 @@ def drawn_forms(seed, many, most_rows=24, most_words=30):
     """So many drawn forms, always the same ones for a seed."""
     source = random.Random(seed)
     return [drawn_form(source, most_rows, most_words) for _ in range(many)]
+
+
+def drawn_companies(seed, many, most_programs, nodes):
+    """So many drawn companies of programs with up to so many nodes."""
+    source = random.Random(seed)
+    return [
+        tuple(drawn_program(source, source.randint(1, nodes)) for _ in range(source.randint(1, most_programs)))
+        for _ in range(many)
+    ]
+
+
+def near(source, program):
+    """A program that is a little other than this one, or is written in another way."""
+    for _ in range(50):
+        place = source.choice(places(program))
+        try:
+            return replaced(program, place, rewritten(source, part_at(program, place)))
+        except BadProgram:
+            continue
+    return program
+
+
+def rewritten(source, part):
+    """Another program in the place of a part; in half of the cases it does the same."""
+    kind = part[0]
+    if source.random() < 0.15:
+        return source.choice([("seq", (part,)), ("seq", (("seq", ()), part)), ("join", (part,)), ("race", (part,))])
+    if kind == "log":
+        return source.choice([part, ("fork", part), ("log", drawn_word(source)), ("race", (part, ("await", 1)))])
+    if kind == "await":
+        return rewritten_await(source, part[1])
+    if kind == "fork":
+        return source.choice([("race", (("seq", ()), part[1])), ("seq", (part,)), ("fork", part), part[1]])
+    if kind == "loop":
+        return rewritten_loop(source, part)
+    return rewritten_parts(source, part)
+
+
+def rewritten_await(source, count):
+    cut = source.randint(1, count)
+    one, other = ("await", cut), ("await", max(1, count - cut))
+    return source.choice([("seq", (one, other)), ("join", (one, ("await", count))), ("await", count + 1), one])
+
+
+def rewritten_loop(source, part):
+    kind, count, body = part
+    cut = source.randint(0, count)
+    return source.choice([
+        ("seq", ((kind, cut, body), (kind, count - cut, body))), ("seq", (body, (kind, max(0, count - 1), body))),
+        ("seq", ((kind, max(0, count - 1), body), body)), (kind, count // 2, ("seq", (body, body))),
+        (kind, count, ("seq", (body, ("seq", ())))), (kind, count + 1, body), ("join", ((kind, cut, body), part)),
+    ])
+
+
+def rewritten_parts(source, part):
+    kind, parts = part
+    at = source.randint(0, len(parts))
+    if source.random() < 0.4 and len(parts) > 1:
+        if kind == "seq":
+            return ("seq", (("seq", parts[:at]), ("seq", parts[at:])))
+        at = source.randint(1, len(parts) - 1)
+        return (kind, ((kind, parts[:at]), (kind, parts[at:])))
+    left = max(0, at - 1)
+    return source.choice([
+        (kind, (*parts[:left], *reversed(parts[left:at + 1]), *parts[at + 1:])), (kind, parts[:left] + parts[at:]),
+        (source.choice(["seq", "join", "race"]), parts), (kind, (*parts[:at], ("seq", ()), *parts[at:])),
+    ])
+
+
+def stretched(program, rounds):
+    """A program whose loops go on for so many rounds more, a multiple of 60."""
+    kind = program[0]
+    if kind == "log" or kind == "await":
+        return program
+    if kind == "fork":
+        return ("fork", stretched(program[1], rounds))
+    if kind == "loop":
+        return ("loop", program[1] + rounds // run_rows(program[2])[0], program[2])
+    return (kind, tuple(stretched(part, rounds) for part in program[1]))
+
+
+def drawn_stretch(source, rounds, loops):
+    """A program of loops that begin within a few rounds, side by side, and go on for at least so many rounds."""
+    parts = []
+    for _ in range(loops):
+        body = drawn_body(source, 8, 4)
+        many = rounds // run_rows(body)[0] + source.randint(1, 9)
+        ahead = ("await", source.randint(1, 9)) if source.random() < 0.7 else ("log", drawn_word(source))
+        parts.append(("seq", (ahead, ("loop", many, body), drawn_leaf(source))))
+    if len(parts) == 1:
+        return parts[0]
+    return source.choice([
+        ("join", tuple(parts)), ("race", tuple(parts)), ("seq", (*[("fork", part) for part in parts[1:]], parts[0])),
+        ("seq", (("fork", parts[0]), ("join", tuple(parts[1:])), ("log", "z"))),
+    ])

@@ -133,3 +133,84 @@ def company_rows(programs, horizon):
 
     rows = queue.run_all(first)
     return [tuple(rows.get(at, ())) for at in range(horizon + 1)]
+
+
+class Noting:
+    """A view of a queue that logs a note in the place of each word."""
+
+    def __init__(self, queue, note):
+        self.queue = queue
+        self.note = note
+
+    @property
+    def at(self):
+        return self.queue.at
+
+    def put(self, callback):
+        self.queue.put(callback)
+
+    def log(self, word):
+        self.queue.log(self.note(word))
+
+
+def in_order(rows):
+    """All that was logged, each with its round, in the order of the log."""
+    return [(at, item) for at in sorted(rows) for item in rows[at]]
+
+
+def company_log(company):
+    """The log of a company: the tuples (round, (program, word))."""
+    queue = SmallQueue()
+
+    def first():
+        for index, program in enumerate(company):
+            start(Noting(queue, lambda word, index=index: (index, word)), program, nothing)
+
+    return in_order(queue.run_all(first))
+
+
+def marked_log(program, behind, beside):
+    """The test log of a program: words and the marks 0 and 1."""
+    queue = SmallQueue()
+
+    def follow():
+        if behind is not None:
+            start_await(queue, behind, lambda: queue.log(0))
+
+    def first():
+        start(queue, program, follow)
+        if beside is not None:
+            start_await(queue, beside, lambda: queue.log(1))
+
+    return [item for at, item in in_order(queue.run_all(first))]
+
+
+def parts_of(program):
+    """The steps of a program."""
+    return program[1] if program[0] == "seq" else (program,)
+
+
+def event_log(company, plan):
+    """The log of a company with a plan: the tuples (round, (program, step, number), word)."""
+    queue = SmallQueue()
+    seen = {}
+
+    def note(program, step):
+        def noted(word):
+            number = seen.get((program, step), 0)
+            seen[program, step] = number + 1
+            return (program, step, number), word
+        return noted
+
+    def start_step(program, step):
+        steps = parts_of(company[program])
+        if step < len(steps):
+            view = Noting(queue, note(program, step))
+            start_await(queue, plan[program][step],
+                        lambda: start(view, steps[step], lambda: start_step(program, step + 1)))
+
+    def first():
+        for program in range(len(company)):
+            start_step(program, 0)
+
+    return [(at, event, word) for at, (event, word) in in_order(queue.run_all(first))]

@@ -4,11 +4,15 @@ import copy
 import importlib
 import inspect
 
+from awaitrounds.errors import BadWish, RoundError
 from tests.checks import ODD_VALUES, Case
 
 P = ("seq", (("fork", ("seq", (("await", 1), ("log", "b")))), ("log", "a"), ("await", 1), ("log", "c")))
+Q = ("seq", (("log", "a"), ("await", 1), ("log", "b")))
 F = (1, (("a",), (None, "b")))
 G = (0, (("c", None),))
+PLAN = ((0, 1, 0, 2), (3, 0, 0))
+WISH = ((1, 2, 0), (0, 3, 0))
 
 CALLS = {
     "programs": {
@@ -26,7 +30,39 @@ CALLS = {
         "forked": {"form": F}, "joined": {"forms": (F, G)}, "raced": {"forms": (F, G)},
         "repeated": {"form": F, "count": 2},
     },
+    "counts": {
+        "total": {"program": P}, "count_before": {"program": P, "at": 1}, "entry": {"program": P, "number": 2},
+        "entries": {"program": P, "start": 1, "stop": 3},
+    },
+    "company": {
+        "is_company": {"value": (P, Q)}, "company_total": {"company": (P, Q)},
+        "company_entry": {"company": (P, Q), "number": 2}, "company_entries": {"company": (P, Q), "start": 1, "stop": 4},
+        "company_number": {"company": (P, Q), "program": 1, "own": 1}, "as_program": {"company": (P, Q)},
+    },
+    "equality": {
+        "same": {"one": P, "other": Q}, "first_difference": {"one": P, "other": Q}, "changes": {"program": P},
+        "test_entry": {"program": P, "test": (0, 1), "number": 3}, "teller": {"one": P, "other": Q},
+        "shows_teller": {"one": P, "other": Q, "value": ((0, 1), 3)},
+    },
+    "wishes": {
+        "steps_of": {"program": P}, "planned": {"company": (P, Q), "plan": PLAN},
+        "event_round": {"company": (P, Q), "plan": PLAN, "event": (1, 2, 0)},
+        "is_ahead": {"company": (P, Q), "plan": PLAN, "earlier": (1, 2, 0), "later": (0, 3, 0)},
+        "lag": {"company": (P, Q), "wish": WISH}, "fewest_awaits": {"company": (P, Q), "wishes": (WISH,)},
+        "contradiction": {"company": (P, Q), "wishes": (WISH, WISH[::-1])},
+        "shows_contradiction": {"company": (P, Q), "wishes": (WISH, WISH[::-1]), "value": (0, 1)},
+    },
 }
+
+# For each argument that is any value, a call that takes it in its place.
+ANY_VALUES = (
+    ("programs", "is_program", "value"), ("programs", "part_at", "place"), ("programs", "replaced", "place"),
+    ("forms", "is_form", "value"), ("counts", "entry", "number"), ("company", "is_company", "value"),
+    ("company", "company_entry", "number"), ("company", "company_number", "program"),
+    ("company", "company_number", "own"), ("equality", "shows_teller", "value"), ("wishes", "planned", "plan"),
+    ("wishes", "event_round", "event"), ("wishes", "is_ahead", "earlier"), ("wishes", "is_ahead", "later"),
+    ("wishes", "lag", "wish"), ("wishes", "shows_contradiction", "value"),
+)
 
 
 class Calls(Case):
@@ -62,13 +98,27 @@ class Calls(Case):
             self.exact(named, kept)
 
     def test_any_values_stay_as_they_were(self):
-        for module, name in (("programs", "is_program"), ("forms", "is_form")):
+        for module, name, argument in ANY_VALUES:
             function = getattr(importlib.import_module(f"awaitrounds.{module}"), name)
             for value in ODD_VALUES:
-                for whole in (value, ("seq", (value,)), (0, (value,)), [value], {"a": value}):
-                    kept = copy.deepcopy(whole)
-                    function(whole)
-                    self.exact(whole, kept)
+                for whole in (value, ("seq", (value,)), (0, (value,)), [value], {"a": value}, (value, value)):
+                    named = {**CALLS[module][name], argument: whole}
+                    kept = copy.deepcopy(named)
+                    try:
+                        function(**named)
+                    except RoundError:
+                        pass
+                    self.exact(named, kept)
+
+    def test_wishes_of_any_values_stay_as_they_were(self):
+        wishes = importlib.import_module("awaitrounds.wishes")
+        for value in ODD_VALUES:
+            named = {"company": (P, Q), "wishes": (WISH, value, [WISH])}
+            for function, more in ((wishes.fewest_awaits, {}), (wishes.contradiction, {}),
+                                   (wishes.shows_contradiction, {"value": [value]})):
+                kept = copy.deepcopy([named, more])
+                self.raises(BadWish, {"wish": value}, function, **named, **more)
+                self.exact([named, more], kept)
 
     def test_refused_places_stay_as_they_were(self):
         programs = importlib.import_module("awaitrounds.programs")

@@ -1,9 +1,17 @@
 """The examples of the document, with exactly these results and errors."""
 
-from awaitrounds.errors import BadProgram, TooLong
+from awaitrounds.company import (
+    as_program, company_entries, company_entry, company_number, company_total, is_company,
+)
+from awaitrounds.counts import count_before, entries, entry, total
+from awaitrounds.equality import changes, first_difference, same, shows_teller, teller, test_entry
+from awaitrounds.errors import BadProgram, NoEntry, TooLong
 from awaitrounds.forms import form_of, forked, is_form, joined, program_of, raced, repeated, then
 from awaitrounds.programs import depth, is_program, node_count, part_at, places, renamed, replaced, words_of
 from awaitrounds.rounds import finish, last_round, marked, words_in
+from awaitrounds.wishes import (
+    contradiction, event_round, fewest_awaits, is_ahead, lag, planned, shows_contradiction, steps_of,
+)
 from tests.checks import Case
 
 P = ("seq", (("fork", ("seq", (("await", 1), ("log", "b")))), ("log", "a"), ("await", 1), ("log", "c")))
@@ -76,3 +84,78 @@ class Forms(Case):
     def test_joined_raced(self):
         found = [joined((self.ONE, self.OTHER)), raced((self.ONE, self.OTHER))]
         self.exact(found, [(1, (("a", "c"), (None, "b"))), (0, (("a", "c", None), ("b", None)))])
+
+
+class Counts(Case):
+    def test_total_and_count_before(self):
+        self.exact([total(P), count_before(P, 1), total(L), count_before(L, 7)], [3, 1, 1000000000000000000, 4])
+
+    def test_entry_and_entries(self):
+        self.exact([entry(L, 10 ** 17), entries(P, 1, 9)], [(200000000000000000, "x"), ("b", "c")])
+
+    def test_a_boolean_is_no_number(self):
+        self.raises(NoEntry, {"number": True}, entry, ("log", "a"), True)
+
+
+class Companies(Case):
+    def test_entry(self):
+        found = [is_company((P, A)), is_company(()), company_total((B, P)), company_entry((B, P), 1)]
+        self.exact(found, [True, False, 4, (0, 0, 1, "b")])
+
+    def test_entries_and_number(self):
+        found = [company_entries((B, P), 0, 4), company_number((B, P), 1, 0), company_number((B, P), 1, 2)]
+        self.exact(found, [((1, "a"), (0, "b"), (1, "b"), (1, "c")), 0, 3])
+
+    def test_as_program(self):
+        self.exact(as_program((("log", "a"), ("await", 2))), ("join", (("log", "a"), ("await", 2))))
+
+
+class Equality(Case):
+    def test_same_and_first_difference(self):
+        found = [same(P, Q), first_difference(P, Q), first_difference(("race", (A, B)), ("join", (A, B)))]
+        self.exact([*found, first_difference(A, B)], [True, None, (1, 0), (0, 0)])
+
+    def test_far(self):
+        twice = ("loop", 5 * 10 ** 17, ("seq", (("log", "x"), ("await", 2), ("log", "x"), ("await", 2))))
+        longer = ("seq", (twice, ("log", "x")))
+        self.exact([same(L, twice), first_difference(L, longer)], [True, (2000000000000000000, 0)])
+
+    def test_changes(self):
+        self.exact([changes(L)[0], changes(("log", "a"))[0]], [0, 0])
+
+    def test_tests(self):
+        race, join = ("race", (A, B)), ("join", (A, B))
+        found = [
+            test_entry(race, (0, None), 1), test_entry(join, (0, None), 1), shows_teller(race, join, ((0, None), 1)),
+            shows_teller(race, join, ((None, 5), 1)), teller(race, race),
+        ]
+        self.exact(found, [0, "b", True, False, None])
+
+
+class Wishes(Case):
+    C = (P, ("seq", (("await", 1), ("log", "x"))))
+
+    def test_steps_and_planned(self):
+        found = [len(steps_of(Q)), steps_of(("log", "a")), planned((Q, ("log", "z")), ((0, 0, 2, 0), (1,)))[1]]
+        self.exact(found, [4, (("log", "a"),), ("seq", (("await", 1), ("log", "z")))])
+
+    def test_rounds_and_orders(self):
+        plan = ((0, 0, 0, 0), (0, 0))
+        found = [
+            event_round(self.C, plan, (0, 3, 0)), is_ahead(self.C, plan, (1, 1, 0), (0, 3, 0)),
+            is_ahead(self.C, ((0, 0, 1, 0), (0, 0)), (1, 1, 0), (0, 3, 0)),
+        ]
+        self.exact(found, [1, False, True])
+
+    def test_lag(self):
+        wishes = (((1, 1, 0), (0, 3, 0)), ((0, 3, 0), (1, 1, 0)), ((0, 3, 0), (0, 1, 0)))
+        self.exact([lag(self.C, wish) for wish in wishes], [1, 0, 2])
+
+    def test_plans_and_contradictions(self):
+        wishes = (((1, 1, 0), (0, 3, 0)), ((0, 3, 0), (1, 1, 0)))
+        found = [
+            fewest_awaits(self.C, wishes[:1]), fewest_awaits(self.C, wishes),
+            shows_contradiction(self.C, wishes, (0, 1)), shows_contradiction(self.C, wishes, (0,)),
+            contradiction(self.C, ()),
+        ]
+        self.exact(found, [((0, 0, 0, 1), (0, 0)), None, True, False, None])

@@ -13,8 +13,13 @@ BUILTINS = {
     "ZeroDivisionError", "NotImplemented", "TypeError", "LookupError", "IndexError", "Exception",
 }
 METHODS = {"__init__", "__eq__", "__len__"}
+# What may be imported from outside of the package; it is only called, by its bare name and with plain arguments.
+LIBRARY = {
+    "heapq": {"heapify", "heappop", "heappush", "heappushpop", "heapreplace"},
+    "math": {"comb", "factorial", "gcd", "isqrt", "lcm", "perm"},
+}
 BARRED = (
-    ast.AsyncFunctionDef, ast.Await, ast.GeneratorExp, ast.Global, ast.Import, ast.JoinedStr, ast.Lambda, ast.Match,
+    ast.AsyncFunctionDef, ast.Await, ast.GeneratorExp, ast.Global, ast.Import, ast.JoinedStr, ast.Match,
     ast.NamedExpr, ast.Nonlocal, ast.Try, ast.With, ast.Yield, ast.YieldFrom, ast.Div, ast.MatMult, ast.AnnAssign,
 )
 
@@ -25,7 +30,7 @@ class Language(unittest.TestCase):
             yield path, ast.parse(path.read_text("ascii"), str(path))
 
     def test_files(self):
-        self.assertGreaterEqual(len(FILES), 7)
+        self.assertGreaterEqual(len(FILES), 14)
         for path in FOLDER.rglob("*"):
             if "__pycache__" not in path.parts:
                 self.assertIn(path.suffix, ("", ".py"))
@@ -60,13 +65,43 @@ class Language(unittest.TestCase):
             own = reached.setdefault(f"awaitrounds.{path.stem}", set())
             for node in tree.body:
                 if isinstance(node, ast.ImportFrom):
-                    self.assertIn(node.module, modules)
                     self.assertEqual([node.level, [name for name in node.names if name.asname]], [0, []])
+                    if node.module in LIBRARY:
+                        self.assertLessEqual({name.name for name in node.names}, LIBRARY[node.module])
+                        continue
+                    self.assertIn(node.module, modules)
                     own.add(node.module)
         for _ in reached:
             for own in reached.values():
                 own.update(*[reached[name] for name in own])
         self.assertEqual([name for name, own in reached.items() if name in own], [])
+
+    def test_library(self):
+        for path, tree in self.trees():
+            calls = [node for node in ast.walk(tree) if isinstance(node, ast.Call) and isinstance(node.func, ast.Name)]
+            for node in tree.body:
+                if isinstance(node, ast.ImportFrom) and node.module in LIBRARY:
+                    for name in [name.name for name in node.names]:
+                        used = [use for use in ast.walk(tree) if isinstance(use, ast.Name) and use.id == name]
+                        called = [call for call in calls if call.func.id == name]
+                        self.assertEqual([call.func for call in called], used, path)
+                        self.assertEqual([call.keywords for call in called], [[] for call in called], path)
+                        self.assertGreater(len(used), 0, path)
+
+    def test_imports_are_used_and_names_are_bound_once(self):
+        for path, tree in self.trees():
+            imported = [name.name for node in tree.body if isinstance(node, ast.ImportFrom) for name in node.names]
+            defined = [node.name for node in tree.body if isinstance(node, (ast.FunctionDef, ast.ClassDef))]
+            defined += [target.id for node in tree.body if isinstance(node, ast.Assign) for target in node.targets]
+            self.assertEqual(len(imported + defined), len(set(imported + defined)), path)
+            used = {node.id for node in ast.walk(tree) if isinstance(node, ast.Name)}
+            self.assertLessEqual(set(imported), used, path)
+            classes = {node.name for node in tree.body if isinstance(node, ast.ClassDef)}
+            for node in ast.walk(tree):
+                name = node.arg if isinstance(node, ast.arg) else None
+                if isinstance(node, ast.Name) and isinstance(node.ctx, ast.Store):
+                    name = node.id
+                self.assertNotIn(name, classes | set(imported), path)
 
     def test_names(self):
         for path, tree in self.trees():
