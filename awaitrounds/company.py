@@ -45,7 +45,7 @@ def company_entries(company, start, stop):
     """The program and the word of each of the entries from number start to stop - 1, as far as there are some."""
     check_range(start, stop)
     log = common_log(company)
-    return tuple([(log.owners[index], log.strands[index].word) for index in log.between(start, stop)])
+    return tuple([(log.owners[index], log.strands[index].word) for _, index in log.between(start, stop)])
 
 
 def company_number(company, program, own):

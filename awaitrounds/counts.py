@@ -33,4 +33,4 @@ def entries(program, start, stop):
     """The words of the entries from number start to number stop - 1, as far as there are some."""
     check_range(start, stop)
     log = log_of(program)
-    return tuple([log.strands[index].word for index in log.between(start, stop)])
+    return tuple([log.strands[index].word for _, index in log.between(start, stop)])

@@ -124,14 +124,24 @@ def turned_course(parts):
 
 def joined_course(parts):
     """The course of the join of courses."""
-    finish, carrier = max([(part.finish, index) for index, part in enumerate(parts)], default=(0, 0))
+    finish, carrier = last_to_finish(parts)
     return beside_course(parts, finish, carrier)
+
+
+def last_to_finish(parts):
+    """The greatest finish of courses, and the index of the last one with it."""
+    return max([(part.finish, index) for index, part in enumerate(parts)], default=(0, 0))
 
 
 def raced_course(parts):
     """The course of the race of courses."""
-    finish, carrier = min([(part.finish, index) for index, part in enumerate(parts)], default=(0, 0))
+    finish, carrier = first_to_finish(parts)
     return beside_course(parts, finish, carrier)
+
+
+def first_to_finish(parts):
+    """The least finish of courses, and the index of the first one with it."""
+    return min([(part.finish, index) for index, part in enumerate(parts)], default=(0, 0))
 
 
 def beside_course(parts, finish, carrier):

@@ -13,6 +13,18 @@ class Stage:
         self.logs = [[Log([course]) for course in row] for row in self.courses]
         self.known = {}
 
+    def total(self):
+        """How many events there are."""
+        return sum([log.total() for row in self.logs for log in row])
+
+    def look_up_all(self):
+        """Looks up all events; all at once are found in far less time than one after the other."""
+        for program, row in enumerate(self.logs):
+            for step, log in enumerate(row):
+                for number, (at, strand) in enumerate(log.between(0, log.total())):
+                    event = (program, step, number)
+                    self.known[event] = self.placed(event, at, strand)
+
     def is_plan(self, value):
         """Whether any value is a plan."""
         if not isinstance(value, tuple) or len(value) != len(self.courses):
@@ -37,14 +49,15 @@ class Stage:
     def base_and_rank(self, event):
         """The base round of an event, and a tuple whose order is that of the ranks."""
         if event not in self.known:
-            self.known[event] = self.looked_up(event)
+            program, step, number = event
+            at, strand = self.logs[program][step].located(number)
+            self.known[event] = self.placed(event, at, strand)
         return self.known[event]
 
-    def looked_up(self, event):
-        """The base round and the rank of an event that was not asked for yet."""
+    def placed(self, event, at, strand):
+        """The base round and the rank of an event from its round and its strand in the course of its step."""
         program, step, number = event
         course = self.courses[program][step]
-        at, strand = self.logs[program][step].located(number)
         start = sum([earlier.finish for earlier in self.courses[program][:step]])
         if at >= course.finish and strand >= len(course.ahead):
             return start + at, (program, 1, -step, number)

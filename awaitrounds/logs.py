@@ -49,7 +49,7 @@ class Log:
         return at, speaking[number - self.before(at)]
 
     def between(self, start, stop):
-        """The indexes of the strands of the entries from start to stop - 1, as far as there are some."""
+        """The round and the index of the strand of each entry from start to stop - 1, as far as there are some."""
         stop = min(stop, self.total())
         if start >= stop:
             return []
@@ -58,14 +58,14 @@ class Log:
         return self.following(at, skipped + stop - start)[skipped:]
 
     def following(self, at, many):
-        """The indexes of the strands of so many entries, from the first one of a round on."""
+        """The rounds and the indexes of the strands of so many entries, from the first one of a round on."""
         coming = [(strand.next_round(at), index) for index, strand in enumerate(self.strands)]
         coming = [item for item in coming if item[0] is not None]
         heapify(coming)
         found = []
         while len(found) < many:
             at, index = coming[0]
-            found.append(index)
+            found.append((at, index))
             later = self.strands[index].next_round(at + 1)
             if later is None:
                 heappop(coming)

@@ -83,18 +83,17 @@ def stage_for(company, wishes):
     return stage
 
 
-def first_steps(company):
+def first_steps(stage):
     """For each program the number of its first step, if the steps of all programs are numbered on; and their number."""
     numbers = [0]
-    for program in company:
-        numbers.append(numbers[-1] + len(steps_of(program)))
+    for steps in stage.courses:
+        numbers.append(numbers[-1] + len(steps))
     return numbers
 
 
-def solved(company, wishes):
+def solved(stage, wishes):
     """The least delays of all steps and None, or None and a ring of wishes, perhaps with other bounds behind them."""
-    stage = stage_for(company, wishes)
-    firsts = first_steps(company)
+    firsts = first_steps(stage)
     bounds = []
     for wish in wishes:
         source, target = [firsts[program] + step for program, step, number in wish]
@@ -106,10 +105,15 @@ def solved(company, wishes):
 
 def fewest_awaits(company, wishes):
     """The plan that fulfils all wishes with the least delay of each step, None if no plan does."""
-    delays, ring = solved(company, wishes)
-    if ring is not None:
+    return least_plan(stage_for(company, wishes), wishes)
+
+
+def least_plan(stage, wishes):
+    """The plan that fulfils all wishes with the least delay of each step, None if no plan does."""
+    delays = solved(stage, wishes)[0]
+    if delays is None:
         return None
-    firsts = first_steps(company)
+    firsts = first_steps(stage)
     return tuple([awaits_of(delays[first:behind]) for first, behind in zip(firsts, firsts[1:])])
 
 
@@ -120,7 +124,7 @@ def awaits_of(delays):
 
 def contradiction(company, wishes):
     """Indexes of wishes that contradict each other, None if some plan fulfils all wishes."""
-    ring = solved(company, wishes)[1]
+    ring = solved(stage_for(company, wishes), wishes)[1]
     if ring is None:
         return None
     # Only the wishes are shown: a bound behind them leads from a step to the next one of the same program.

@@ -55,7 +55,7 @@ def start(queue, program, follow):
     elif kind == "race":
         start_race(queue, program[1], follow)
     elif kind == "loop":
-        start_seq(queue, (program[2],) * program[1], 0, follow)
+        start_loop(queue, program[2], program[1], follow)
     else:
         raise AssertionError(program)
 
@@ -72,6 +72,13 @@ def start_seq(queue, parts, index, follow):
         follow()
     else:
         start(queue, parts[index], lambda: start_seq(queue, parts, index + 1, follow))
+
+
+def start_loop(queue, body, count, follow):
+    if count == 0:
+        follow()
+    else:
+        start(queue, body, lambda: start_loop(queue, body, count - 1, follow))
 
 
 def start_join(queue, parts, follow):
@@ -96,6 +103,44 @@ def start_race(queue, parts, follow):
 
     for part in parts:
         start(queue, part, one_finished)
+
+
+class SteppedQueue:
+    """A small queue of programs that runs one callback at a time, and can only go on."""
+
+    def __init__(self, company):
+        self.queue = deque()
+        self.words = []
+        self.ended = []
+        self.programs = []
+        self.calls = 0
+        self.put(lambda: [self.begin(index, program) for index, program in enumerate(company)])
+        self.programs.extend(company)
+
+    def put(self, callback):
+        self.queue.append(callback)
+
+    def begin(self, index, program):
+        start(Noting(self, lambda word: (index, word)), program, lambda: self.ended.append(index))
+
+    def log(self, item):
+        self.words.append(item)
+
+    def call_next(self):
+        before = len(self.words)
+        self.calls += 1
+        self.queue.popleft()()
+        return tuple(self.words[before:])
+
+    def add(self, program):
+        index = len(self.programs)
+        self.programs.append(program)
+        self.put(lambda: self.begin(index, program))
+        return index
+
+    def state(self):
+        """How many callbacks wait and have run, the log, the programs that have finished, and all programs."""
+        return (len(self.queue), self.calls, tuple(self.words), tuple(sorted(self.ended)), tuple(self.programs))
 
 
 def follower(queue, horizon, note=GAP):

@@ -13,6 +13,7 @@ F = (1, (("a",), (None, "b")))
 G = (0, (("c", None),))
 PLAN = ((0, 1, 0, 2), (3, 0, 0))
 WISH = ((1, 2, 0), (0, 3, 0))
+ORDER = ((1, 0, 0), (0, 1, 0), (0, 0, 0), (1, 2, 0), (0, 3, 0))
 
 CALLS = {
     "programs": {
@@ -52,6 +53,20 @@ CALLS = {
         "contradiction": {"company": (P, Q), "wishes": (WISH, WISH[::-1])},
         "shows_contradiction": {"company": (P, Q), "wishes": (WISH, WISH[::-1]), "value": (0, 1)},
     },
+    "explain": {
+        "events_of": {"company": (P, Q)}, "observed": {"company": (P, Q), "plan": PLAN},
+        "explained": {"company": (P, Q), "observation": ORDER},
+    },
+    "texts": {
+        "show_program": {"program": P}, "show_company": {"company": (P, Q)},
+        "read_program": {"text": "seq(log a; await 1)"}, "read_company": {"text": "log a\nawait 1"},
+    },
+}
+
+# The methods of the classes, with the object that they are called on.
+METHODS = {
+    "call_next": {}, "run": {"limit": 2}, "add": {"program": P}, "undo": {}, "waiting": {}, "calls": {}, "log": {},
+    "finished": {}, "programs": {}, "trial": {"look": len}, "copy": {},
 }
 
 # For each argument that is any value, a call that takes it in its place.
@@ -61,7 +76,8 @@ ANY_VALUES = (
     ("company", "company_entry", "number"), ("company", "company_number", "program"),
     ("company", "company_number", "own"), ("equality", "shows_teller", "value"), ("wishes", "planned", "plan"),
     ("wishes", "event_round", "event"), ("wishes", "is_ahead", "earlier"), ("wishes", "is_ahead", "later"),
-    ("wishes", "lag", "wish"), ("wishes", "shows_contradiction", "value"),
+    ("wishes", "lag", "wish"), ("wishes", "shows_contradiction", "value"), ("explain", "observed", "plan"),
+    ("explain", "explained", "observation"), ("texts", "read_program", "text"), ("texts", "read_company", "text"),
 )
 
 
@@ -84,6 +100,35 @@ class Calls(Case):
             result = function(*named.values())
             self.exact(function(**named), result)
             self.exact(function(**dict(reversed(named.items()))), result)
+
+    def test_methods(self):
+        queues, desks = (importlib.import_module(f"awaitrounds.{name}") for name in ("queues", "desk"))
+        self.assertEqual([queues.Queue.__module__, desks.Desk.__module__], ["awaitrounds.queues", "awaitrounds.desk"])
+        self.assertEqual(list(inspect.signature(queues.Queue).parameters), ["company"])
+        self.assertEqual(list(inspect.signature(desks.Desk).parameters), [])
+        self.assertEqual(list(inspect.signature(desks.Desk.say).parameters), ["self", "line"])
+        for name, named in METHODS.items():
+            self.assertEqual(list(inspect.signature(vars(queues.Queue)[name]).parameters), ["self", *named])
+            results = []
+            for position in (True, False):
+                queue = queues.Queue((P, Q)) if position else queues.Queue(company=(P, Q))
+                queue.run(1)
+                kept = copy.deepcopy(named)
+                results.append(getattr(queue, name)(*(named.values() if position else ()), **({} if position else named)))
+                self.exact(named, kept)
+            self.assertEqual(results[0], results[1])
+
+    def test_any_values_for_methods_stay_as_they_were(self):
+        queues, desks = (importlib.import_module(f"awaitrounds.{name}") for name in ("queues", "desk"))
+        for value in ODD_VALUES:
+            for whole in (value, ("seq", (value,)), [value], {"a": value}, (value, P)):
+                kept = copy.deepcopy(whole)
+                for call in (queues.Queue, queues.Queue((P,)).add, desks.Desk().say):
+                    try:
+                        call(whole)
+                    except RoundError:
+                        pass
+                    self.exact(whole, kept)
 
     def test_equal_calls_have_equal_results(self):
         for function, named in self.functions():

@@ -4,11 +4,15 @@ from awaitrounds.company import (
     as_program, company_entries, company_entry, company_number, company_total, is_company,
 )
 from awaitrounds.counts import count_before, entries, entry, total
+from awaitrounds.desk import Desk
 from awaitrounds.equality import changes, first_difference, same, shows_teller, teller, test_entry
-from awaitrounds.errors import BadProgram, NoEntry, TooLong
+from awaitrounds.errors import BadProgram, BadText, NoEntry, TooLong
+from awaitrounds.explain import events_of, explained, observed
 from awaitrounds.forms import form_of, forked, is_form, joined, program_of, raced, repeated, then
 from awaitrounds.programs import depth, is_program, node_count, part_at, places, renamed, replaced, words_of
+from awaitrounds.queues import Queue
 from awaitrounds.rounds import finish, last_round, marked, words_in
+from awaitrounds.texts import read_company, read_program, show_program
 from awaitrounds.wishes import (
     contradiction, event_round, fewest_awaits, is_ahead, lag, planned, shows_contradiction, steps_of,
 )
@@ -159,3 +163,61 @@ class Wishes(Case):
             contradiction(self.C, ()),
         ]
         self.exact(found, [((0, 0, 0, 1), (0, 0)), None, True, False, None])
+
+
+class Observations(Case):
+    C = (P, ("log", "x"))
+
+    def test_events_and_observed(self):
+        found = [events_of(self.C), observed(self.C, ((0, 1, 0, 0), (0,)))]
+        wanted = [
+            ((0, 0, 0), (0, 1, 0), (0, 3, 0), (1, 0, 0)), ((1, 0, 0), (0, 0, 0), (0, 1, 0), (0, 3, 0)),
+        ]
+        self.exact(found, wanted)
+
+    def test_explained(self):
+        found = [
+            explained(self.C, ((1, 0, 0), (0, 0, 0), (0, 1, 0), (0, 3, 0))),
+            explained(self.C, ((0, 3, 0), (0, 1, 0), (0, 0, 0), (1, 0, 0))),
+        ]
+        self.exact(found, [((0, 1, 0, 0), (0,)), None])
+
+
+class Queues(Case):
+    def test_step_by_step(self):
+        queue = Queue((P, B))
+        first = (queue.call_next(), queue.waiting())
+        second = (queue.call_next(), queue.call_next(), queue.call_next(), queue.waiting(), queue.finished())
+        wanted = ((((0, "a"),), 3), (((0, "b"),), ((0, "c"),), ((1, "b"),), 0, (0, 1)))
+        self.exact((first, second), wanted)
+
+    def test_undo_and_add(self):
+        queue = Queue((("log", "a"),))
+        first = (queue.run(5), queue.log(), queue.undo(), queue.log(), queue.waiting())
+        second = (queue.add(("log", "b")), queue.run(9), queue.log(), len(queue))
+        self.exact((first, second), ((1, ((0, "a"),), None, (), 1), (1, 2, ((0, "a"), (1, "b")), 2)))
+
+
+class Texts(Case):
+    def test_show_and_read(self):
+        found = [show_program(P), read_program("loop 3 seq(log x; await 2)"), show_program(("seq", ()))]
+        wanted = [
+            "seq(fork(seq(await 1; log b)); log a; await 1; log c)",
+            ("loop", 3, ("seq", (("log", "x"), ("await", 2)))), "seq()",
+        ]
+        self.exact(found, wanted)
+
+    def test_a_missing_blank(self):
+        self.raises(BadText, {"position": 11}, read_program, "join(log a;log b)")
+
+    def test_a_bad_line(self):
+        self.raises(BadText, {"position": 2}, read_company, "log a\nfork(log b)\nloop 2 log c")
+
+
+class Desks(Case):
+    def test_lines(self):
+        desk = Desk()
+        one = (desk.say("let p race(seq(log a; await 1); seq(await 1; log b))"), desk.say("let q log z"))
+        lines = ("round p 1", "same p q", "company 0 9 p q", "entry p 1", "names")
+        wanted = (("ok", "ok"), ("_ b", "no 0 0", "0:a 1:z 0:b", "1 b", "p q"))
+        self.exact((one, tuple([desk.say(line) for line in lines])), wanted)

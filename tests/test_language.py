@@ -20,8 +20,14 @@ LIBRARY = {
 }
 BARRED = (
     ast.AsyncFunctionDef, ast.Await, ast.GeneratorExp, ast.Global, ast.Import, ast.JoinedStr, ast.Match,
-    ast.NamedExpr, ast.Nonlocal, ast.Try, ast.With, ast.Yield, ast.YieldFrom, ast.Div, ast.MatMult, ast.AnnAssign,
+    ast.NamedExpr, ast.Nonlocal, ast.TryStar, ast.With, ast.Yield, ast.YieldFrom, ast.Div, ast.MatMult, ast.AnnAssign,
 )
+# The methods of plain values that may be called; the methods of the package are read from its classes.
+PLAIN_METHODS = {
+    "append", "copy", "count", "endswith", "extend", "find", "get", "index", "insert", "items", "join", "keys", "pop",
+    "remove", "replace", "reverse", "setdefault", "split", "startswith", "strip", "update", "values", "bit_length",
+}
+TAKES_LISTS = {"any", "all", "min", "max", "sum", "sorted"}
 
 
 class Language(unittest.TestCase):
@@ -30,7 +36,7 @@ class Language(unittest.TestCase):
             yield path, ast.parse(path.read_text("ascii"), str(path))
 
     def test_files(self):
-        self.assertGreaterEqual(len(FILES), 14)
+        self.assertGreaterEqual(len(FILES), 19)
         for path in FOLDER.rglob("*"):
             if "__pycache__" not in path.parts:
                 self.assertIn(path.suffix, ("", ".py"))
@@ -47,6 +53,53 @@ class Language(unittest.TestCase):
                 if isinstance(node, ast.Constant):
                     self.assertNotIsInstance(node.value, (float, complex, bytes), path)
                     self.assertFalse(isinstance(node.value, str) and "%" in node.value, path)
+
+    def test_tries(self):
+        """Only own errors are caught, and what is done at last is to put names and attributes back."""
+        tree = ast.parse((FOLDER / "errors.py").read_text("ascii"))
+        errors = {node.name for node in tree.body if isinstance(node, ast.ClassDef)}
+        for path, tree in self.trees():
+            for node in ast.walk(tree):
+                if isinstance(node, ast.Try):
+                    for handler in node.handlers:
+                        self.assertIn(ast.unparse(handler.type), errors, path)
+                    for row in node.finalbody:
+                        self.assertIsInstance(row, ast.Assign, path)
+                        self.assertTrue(all(isinstance(part, (ast.Attribute, ast.Name, ast.Load, ast.Store))
+                                            for item in (*row.targets, row.value) for part in ast.walk(item)), path)
+
+    def test_methods_that_are_called(self):
+        own = {row.name for path, tree in self.trees() for node in tree.body if isinstance(node, ast.ClassDef)
+               for row in node.body if isinstance(row, ast.FunctionDef)}
+        for path, tree in self.trees():
+            for node in ast.walk(tree):
+                if isinstance(node, ast.Call) and isinstance(node.func, ast.Attribute):
+                    self.assertIn(node.func.attr, own | PLAIN_METHODS, path)
+                if isinstance(node, ast.Call) and isinstance(node.func, ast.Name) and node.func.id in TAKES_LISTS:
+                    self.assertNotIsInstance(node.args[0], ast.GeneratorExp, path)
+
+    def test_names_of_methods_and_attributes(self):
+        """No name is a method and an attribute in one class, and each attribute that is read is assigned somewhere."""
+        assigned, read, methods = set(), set(), set()
+        for path, tree in self.trees():
+            for node in tree.body:
+                if isinstance(node, ast.ClassDef):
+                    rows = {row.name for row in node.body if isinstance(row, ast.FunctionDef)}
+                    own = {use.attr for use in ast.walk(node) if isinstance(use, ast.Attribute)
+                           and isinstance(use.ctx, ast.Store) and isinstance(use.value, ast.Name)
+                           and use.value.id == "self"}
+                    self.assertEqual(rows & own, set(), path)
+                    assigned |= own
+                    methods |= rows
+            read |= {use.attr for use in ast.walk(tree) if isinstance(use, ast.Attribute)}
+        self.assertLessEqual(read, assigned | methods | PLAIN_METHODS)
+
+    def test_special_methods(self):
+        """Lengths are plain lengths."""
+        for path, tree in self.trees():
+            for node in ast.walk(tree):
+                if isinstance(node, ast.FunctionDef) and node.name == "__len__":
+                    self.assertRegex(ast.unparse(node.body[-1]), r"^return len\(.*\)$")
 
     def test_functions(self):
         for path, tree in self.trees():

@@ -12,6 +12,7 @@ from awaitrounds.wishes import (
 )
 from tests.checks import ODD_VALUES, Case
 from tests.drawing import drawn_companies
+from tests.plans import delays_of, drawn_plan, no_awaits, order_with, small_plans
 from tests.small_queue import company_log, event_log, in_order, parts_of, run_rows
 
 A, B, C = ("log", "a"), ("log", "b"), ("log", "c")
@@ -24,25 +25,6 @@ def seq(*parts):
 
 def wait(count):
     return ("await", count)
-
-
-def no_awaits(company):
-    """The plan without awaits."""
-    return tuple((0,) * len(parts_of(program)) for program in company)
-
-
-def delays_of(plan):
-    """The delays of all steps, program by program."""
-    return [list(itertools.accumulate(row)) for row in plan]
-
-
-def order_with(company, plan):
-    """The numbers in the log of all events with a plan, by a run."""
-    return {event: number for number, (at, event, word) in enumerate(event_log(company, plan))}
-
-
-def drawn_plan(source, company, most=3):
-    return tuple(tuple(source.randint(0, most) for _ in parts_of(program)) for program in company)
 
 
 class Steps(Case):
@@ -438,13 +420,7 @@ class Drawn(Case):
     MOST = 2
 
     def all_orders(self, company):
-        lengths = [len(parts_of(program)) for program in company]
-        orders = []
-        for flat in itertools.product(range(self.MOST + 1), repeat=sum(lengths)):
-            rest = iter(flat)
-            plan = tuple(tuple(next(rest) for _ in range(many)) for many in lengths)
-            orders.append((plan, order_with(company, plan)))
-        return orders
+        return [(plan, order_with(company, plan)) for plan in small_plans(company, self.MOST)]
 
     def check(self, company, orders, wishes):
         plan = fewest_awaits(company, wishes)
